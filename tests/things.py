@@ -1,6 +1,14 @@
-"""What the tests share: a test case for what is told True or False, and things of many kinds."""
+"""What the tests share: test cases for what is told and refused, things of many kinds, and answers found by trying."""
 
+import copy
+import itertools
 import unittest
+
+from askwithin.errors import AskError, TooMany
+
+WIDTHS = [("one", 1), ("two", 2), ("pair", 2), ("three", 3)]
+NAMES = ["x", "y", "z", "w", "v"]
+FAR = int("9" * 70)
 
 
 class Asking(unittest.TestCase):
@@ -52,3 +60,135 @@ def odd_things():
         set(), {1, 2}, frozenset(), range(3), object(), int, len, Sulky(), Sulky,
         iter([]), (sign for sign in "ab"), memoryview(b"a"), loop(), deep(), NotImplemented, ...,
     ]
+
+
+class Refusing(unittest.TestCase):
+    def too_many(self, ask, *things):
+        """Refused by TooMany itself, with all that was handed in as it was."""
+        before = copy.deepcopy(things)
+        with self.assertRaises(AskError) as taken:
+            ask(*things)
+        self.assertIs(type(taken.exception), TooMany)
+        self.assertIsInstance(taken.exception, ValueError)
+        self.assertEqual(things, before)
+
+    def unchanged(self, ask, *things):
+        """Tells what is told, asked twice, with all that was handed in as it was, orders too."""
+        before = repr(things)
+        first = ask(*things)
+        shown = repr(first)
+        self.assertEqual(repr(ask(*things)), shown)
+        self.assertEqual(repr(things), before)
+        self.assertEqual(repr(first), shown)
+        return first
+
+
+def line(table, *terms):
+    return (table, terms)
+
+
+def rows(many, wide=1):
+    """As many rows, told from the last to the first."""
+    return [(k,) * wide for k in reversed(range(many))]
+
+
+def names_told(lines):
+    return list(dict.fromkeys(term for table, terms in lines for term in terms if isinstance(term, str)))
+
+
+def row_choices(book, lines):
+    """By trying all rows for all lines: for each match its numbers by names, and the rows that the lines become."""
+    for chosen in itertools.product(*[book.get(table, []) for table, terms in lines]):
+        numbers, good = {}, True
+        for (table, terms), row in zip(lines, chosen):
+            good = good and len(terms) == len(row)
+            for term, number in zip(terms, row):
+                good = good and number == (numbers.setdefault(term, number) if isinstance(term, str) else term)
+        if good:
+            yield numbers, chosen
+
+
+def tried_matches(book, lines):
+    names = names_told(lines)
+    return sorted({tuple(numbers[name] for name in names) for numbers, chosen in row_choices(book, lines)})
+
+
+def tried_rows(book, lines):
+    kept = [set() for line in lines]
+    for numbers, chosen in row_choices(book, lines):
+        for own, row in zip(kept, chosen):
+            own.add(row)
+    return [sorted(own) for own in kept]
+
+
+def tried_answers(book, question):
+    told = set()
+    for head, lines in question:
+        for numbers, chosen in row_choices(book, lines):
+            told.add(tuple(numbers.get(term, term) for term in head))
+    return sorted(told)
+
+
+class Dice:
+    """Numbers that look thrown and are the same each time, whatever Python it is."""
+
+    def __init__(self, start):
+        self.state = start
+
+    def throw(self, sides):
+        self.state = (self.state * 6364136223846793005 + 1442695040888963407) % 2 ** 64
+        return (self.state >> 33) % sides
+
+    def pick(self, things):
+        return things[self.throw(len(things))]
+
+    def book(self, most_rows, values):
+        book = {}
+        for table, wide in WIDTHS:
+            thrown = [tuple(self.pick(values) for place in range(wide)) for row in range(self.throw(most_rows + 1))]
+            if self.throw(8) > 0:
+                book[table] = list(dict.fromkeys(thrown))
+        return book
+
+    def lines(self, most_lines, terms):
+        told = []
+        for k in range(self.throw(most_lines + 1)):
+            table, wide = self.pick(WIDTHS)
+            told.append((table, tuple(self.pick(terms) for place in range(wide))))
+        return tuple(told)
+
+
+def thrown_cases(many):
+    """Books with lines, many of them with matches, alike lines, rings and names that stand twice."""
+    dice = Dice(7)
+    for k in range(many):
+        values = dice.pick([[0, 1], [0, 1, 2], [-1, 0, 10], [-FAR, 2, FAR]])
+        terms = NAMES[:dice.pick([2, 3, 4, 5])] * 3 + values[:dice.throw(3)]
+        yield dice.book(dice.pick([3, 5, 8]), values), dice.lines(5, terms)
+
+
+def thrown_questions(many):
+    """Books with questions of one to three alternatives, their heads of one length, some of them with numbers."""
+    cases = list(thrown_cases(many + 2))
+    for k in range(many):
+        question = []
+        for book, lines in cases[k:k + 1 + k % 3]:
+            head = names_told(lines)[::-1] + [1, -FAR, 0]
+            question.append((tuple(head[:k % 4]), lines))
+        yield cases[k][0], question
+
+
+def thrown_rings(many):
+    """Books with lines of which three to five lie around a ring, or nearly so, perhaps with one or two more."""
+    dice = Dice(11)
+    for k in range(many):
+        around = 3 + k % 3
+        told = []
+        for place in range(around):
+            ends = (NAMES[place], NAMES[(place + 1) % around])
+            told.append((dice.pick(["two", "pair"]), ends[::dice.pick([1, -1])]))
+        more = dice.lines(6 - around, NAMES[:around] + ["u", "t", 0])
+        told = told + list(more)
+        turned = dice.throw(len(told))
+        values = dice.pick([[0, 1], [0, 1, 2], [0, -FAR, FAR]])
+        yield dice.book(dice.pick([5, 9]), values), tuple(told[turned:] + told[:turned])
