@@ -326,13 +326,17 @@ class TestTooMany(Refusing):
         self.assertEqual(least_match(book, above), (0, 0))
         self.assertEqual([len(kept) for kept in thinned(book, above)], [17, 241])
 
-    def test_4096_matches_and_some_more_within_the_bounds_of_books(self):
-        book = {"t": rows(16), "one": rows(17)}
-        lines = (line("t", "x"), line("t", "y"), line("t", "z"))
+    def test_4096_matches_and_4097_within_the_bounds_of_books(self):
+        book = {"t": [(0, k) for k in range(16)]}
+        lines = (line("t", "x", "u"), line("t", "x", "v"), line("t", "x", "w"))
         self.assertEqual(len(plan_matches(book, lines)), 4096)
-        lines = (line("t", "x"), line("t", "y"), line("one", "z"))
+        self.assertEqual(plan_answers(book, [(("x",), lines)]), [(0,)])
+        book["t"].append((1, 5))
+        self.assertEqual(many(book, lines), 4097)
+        self.assertEqual(least_match(book, lines), (0, 0, 0, 0))
+        self.assertEqual(thinned(book, lines), [book["t"]] * 3)
         self.too_many(plan_matches, book, lines)
-        self.assertEqual(many(book, lines), 16 * 16 * 17)
+        self.too_many(plan_answers, book, [(("x",), lines)])
 
     def test_matches_of_a_ring_with_ears_above(self):
         book, lines = wheel((4, 4, 4))
