@@ -21,16 +21,24 @@ def rows_of(book, line):
     return book.get(line[0], [])
 
 
-def ways(book, lines):
+def ways_of(rows):
     number = 1
-    for line in lines:
-        number = number * max(1, len(rows_of(book, line)))
+    for own in rows:
+        number = number * max(1, len(own))
     return number
 
 
-def refuse_ways(book, lines):
-    if ways(book, lines) > MOST_WAYS:
+def ways(book, lines):
+    return ways_of([rows_of(book, line) for line in lines])
+
+
+def refuse_rows(rows):
+    if ways_of(rows) > MOST_WAYS:
         raise TooMany("there are too many ways to walk these lines")
+
+
+def refuse_ways(book, lines):
+    refuse_rows([rows_of(book, line) for line in lines])
 
 
 def extended(found, line, rows):

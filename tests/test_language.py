@@ -1,4 +1,4 @@
-"""Whether the package keeps to the part of Python it is written in (the rules L1 to L28, as far as a test sees them)."""
+"""Whether the package keeps to its part of Python (the rules L1 to L28, as far as a test sees them)."""
 
 import ast
 import builtins

@@ -2,6 +2,7 @@ import unittest
 
 from things import (
     FAR, Refusing, line, rows, thrown_cases, thrown_questions, thrown_rings, tried_answers, tried_matches, tried_rows,
+    wheel,
 )
 
 from askwithin.errors import TooMany
@@ -21,12 +22,6 @@ def told_of(book, lines):
 
 def all_cases():
     return [case for case in list(thrown_cases(300)) + list(thrown_rings(200)) if ways(*case) <= 1500]
-
-
-def wheel(lengths):
-    """A book with a table of two places for each length, and lines of them around a ring."""
-    book = {f"t{k}": [(j, j) for j in reversed(range(length))] for k, length in enumerate(lengths)}
-    return book, tuple(line(f"t{k}", f"x{k}", f"x{(k + 1) % len(lengths)}") for k in range(len(lengths)))
 
 
 class TestFitting(Refusing):

@@ -1,21 +1,11 @@
 import unittest
 
-from things import FAR, Refusing, line, rows, thrown_cases, thrown_questions, tried_answers, tried_matches
+from things import FAR, Refusing, Unwalked, line, rows, thrown_cases, thrown_questions, tried_answers, tried_matches
 
 from askwithin.walk import answers, fits, matches, ways
 
 ROADS = {"road": [(3, 1), (1, 2), (2, 3), (2, 2)], "town": [(2,), (-5,), (1,)], "bare": []}
 SIXES = {"a": rows(32), "b": rows(16), "c": rows(8), "d": rows(17), "e": rows(1), "bare": []}
-
-
-class Unwalked(list):
-    """A list of rows that may be measured, not walked."""
-
-    def __iter__(self):
-        raise RuntimeError("these rows were walked")
-
-    def __deepcopy__(self, memo):
-        return self
 
 
 class TestFits(Refusing):

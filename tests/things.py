@@ -62,6 +62,16 @@ def odd_things():
     ]
 
 
+class Unwalked(list):
+    """A list of rows that may be measured, not walked."""
+
+    def __iter__(self):
+        raise RuntimeError("these rows were walked")
+
+    def __deepcopy__(self, memo):
+        return self
+
+
 class Refusing(unittest.TestCase):
     def too_many(self, ask, *things):
         """Refused by TooMany itself, with all that was handed in as it was."""
@@ -96,15 +106,29 @@ def names_told(lines):
     return list(dict.fromkeys(term for table, terms in lines for term in terms if isinstance(term, str)))
 
 
+def wheel(lengths):
+    """A book with a table of two places for each length, and lines of them around a ring."""
+    book = {f"t{k}": [(j, j) for j in reversed(range(length))] for k, length in enumerate(lengths)}
+    return book, tuple(line(f"t{k}", f"x{k}", f"x{(k + 1) % len(lengths)}") for k in range(len(lengths)))
+
+
+def numbers_for(lines, chosen):
+    """The numbers, by names, that make these rows of the lines, or None."""
+    numbers = {}
+    for (table, terms), row in zip(lines, chosen, strict=True):
+        if len(terms) != len(row):
+            return None
+        for term, number in zip(terms, row):
+            if number != (numbers.setdefault(term, number) if isinstance(term, str) else term):
+                return None
+    return numbers
+
+
 def row_choices(book, lines):
     """By trying all rows for all lines: for each match its numbers by names, and the rows that the lines become."""
     for chosen in itertools.product(*[book.get(table, []) for table, terms in lines]):
-        numbers, good = {}, True
-        for (table, terms), row in zip(lines, chosen):
-            good = good and len(terms) == len(row)
-            for term, number in zip(terms, row):
-                good = good and number == (numbers.setdefault(term, number) if isinstance(term, str) else term)
-        if good:
+        numbers = numbers_for(lines, chosen)
+        if numbers is not None:
             yield numbers, chosen
 
 
@@ -150,12 +174,27 @@ class Dice:
                 book[table] = list(dict.fromkeys(thrown))
         return book
 
-    def lines(self, most_lines, terms):
+    def lines(self, most_lines, terms, widths=WIDTHS):
         told = []
         for k in range(self.throw(most_lines + 1)):
-            table, wide = self.pick(WIDTHS)
+            table, wide = self.pick(widths)
             told.append((table, tuple(self.pick(terms) for place in range(wide))))
         return tuple(told)
+
+    def columns(self, wide, many):
+        left = list(range(wide))
+        return tuple(left.pop(self.throw(len(left))) for place in range(many))
+
+    def rule(self, widths=WIDTHS):
+        table, wide = self.pick(widths)
+        if self.throw(2) == 0:
+            return ("key", table, tuple(sorted(self.columns(wide, 1 + self.throw(wide)))))
+        other, width = self.pick(widths)
+        many = 1 + self.throw(min(wide, width))
+        return ("points", table, self.columns(wide, many), other, self.columns(width, many), width)
+
+    def rules(self, most, widths=WIDTHS):
+        return [self.rule(widths) for k in range(self.throw(most + 1))]
 
 
 def thrown_cases(many):
