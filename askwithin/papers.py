@@ -1,7 +1,7 @@
 """Papers: why a row is an answer of a question, and what shows that it is none."""
 
 from askwithin.terms import names_of, put_in, put_in_lines
-from askwithin.thin import all_fitting, fitting, least_match, refuse_ring, thin_parents, walk_rest, with_partner
+from askwithin.thin import all_fitting, fitting, least_of, refuse_ring, thin_parents, walk_rest, with_partner
 from askwithin.trees import ears, ring
 from askwithin.walk import fits, refuse_rows
 
@@ -23,7 +23,7 @@ def least_with(book, alternative, row):
     if known is None:
         return None
     lines = put_in_lines(alternative[1], known)
-    numbers = least_match(book, lines)
+    numbers = least_of(book, lines)
     if numbers is None:
         return None
     # The names that are left stand in the same order as ahead, so the least of theirs is the least of all.
@@ -31,14 +31,18 @@ def least_with(book, alternative, row):
     return put_in(names_of(alternative[1]), known)
 
 
-def why(book, question, row):
-    # All alternatives are looked at first: a later one may be a reason to refuse, too.
-    refuse_bound(book, question, row)
+def first_with(book, question, row):
     for number, alternative in enumerate(question):
         numbers = least_with(book, alternative, row)
         if numbers is not None:
             return (number, numbers)
     return None
+
+
+def why(book, question, row):
+    # All alternatives are looked at first: a later one may be a reason to refuse, too.
+    refuse_bound(book, question, row)
+    return first_with(book, question, row)
 
 
 def paper(book, alternative, row):

@@ -105,8 +105,7 @@ def many(book, lines):
     return total
 
 
-def least_match(book, lines):
-    refuse_ring(book, lines)
+def least_of(book, lines):
     kept = all_fitting(book, lines)
     known = {}
     # Names go line by line: so the least row of the first line begins the least match, and so on with it alone kept.
@@ -117,6 +116,11 @@ def least_match(book, lines):
         kept[k] = kept[k][:1]
         known = fits(line, kept[k][0], known)
     return put_in(names_of(lines), known)
+
+
+def least_match(book, lines):
+    refuse_ring(book, lines)
+    return least_of(book, lines)
 
 
 def joined(found, line, rows, names):

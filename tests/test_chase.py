@@ -1,8 +1,10 @@
 import copy
-import itertools
 import unittest
 
-from things import FAR, NAMES, WIDTHS, Dice, Refusing, line, names_told, odd_things
+from things import (
+    FAR, NAMES, WIDTHS, Dice, Refusing, line, names_told, odd_things, tried_behind, tried_chase, tried_due,
+    tried_right, tried_steps,
+)
 
 from askwithin.chase import behind, chase, due
 from askwithin.rules import is_rule, keeps
@@ -10,80 +12,6 @@ from askwithin.rules import is_rule, keeps
 KEY = ("key", "t", (0,))
 DEEP = ("points", "t", (1,), "t", (0,), 2)
 ROUND = [("points", f"t{k}", (1,), f"t{(k + 1) % 6}", (0,), 2) for k in range(6)]
-
-
-def is_text(term):
-    return isinstance(term, str)
-
-
-def tried_right(lines, step, rules):
-    """What the document says of a step that may be taken, word for word, of steps whose parts are of the right kind."""
-    word, number, i = step[:3]
-    if number >= len(rules) or i >= len(lines):
-        return False
-    rule, (table, terms) = rules[number], lines[i]
-    if word == "put":
-        if rule[0] != "points" or rule[1] != table:
-            return False
-        pairs = list(zip(rule[2], rule[4], strict=True))
-        return not any(own == rule[3] and all(terms[k] == others[m] for k, m in pairs) for own, others in lines)
-    j, column = step[3:]
-    if rule[0] != "key" or not i < j or j >= len(lines) or rule[1] != table or rule[1] != lines[j][0]:
-        return False
-    others = lines[j][1]
-    if any(terms[k] != others[k] for k in rule[2]) or column >= len(terms) or terms[column] == others[column]:
-        return False
-    return (word == "clash") == (not is_text(terms[column]) and not is_text(others[column]))
-
-
-def tried_steps(lines, rules):
-    """All steps, right or not, with numbers somewhat beyond what is there."""
-    numbers, places, columns = range(len(rules) + 1), range(len(lines) + 1), range(4)
-    for word in ("same", "clash"):
-        yield from itertools.product((word,), numbers, places, places, columns)
-    yield from itertools.product(("put",), numbers, places)
-
-
-def tried_due(lines, rules):
-    right = [step for step in tried_steps(lines, rules) if tried_right(lines, step, rules)]
-    by_keys = sorted([step for step in right if step[0] != "put"], key=lambda step: step[1:])
-    puts = sorted([step for step in right if step[0] == "put"], key=lambda step: (step[2], step[1]))
-    return (by_keys + puts + [None])[0]
-
-
-def tried_behind(alternative, step, rules):
-    """The alternative behind a step that is right."""
-    head, lines = alternative
-    if step[0] == "clash":
-        return alternative
-    rule = rules[step[1]]
-    terms = lines[step[2]][1]
-    if step[0] == "put":
-        taken = set(head) | {term for own, others in lines for term in others}
-        fresh = (name for name in (f"n{k}" for k in itertools.count(1)) if name not in taken)
-        given = dict(zip(rule[4], [terms[k] for k in rule[2]]))
-        return (head, lines + ((rule[3], tuple(given[k] if k in given else next(fresh) for k in range(rule[5]))),))
-    s, t = terms[step[4]], lines[step[3]][1][step[4]]
-    old, new = (s, t) if is_text(s) and not is_text(t) else (t, s)
-    put = [(own, tuple(new if term == old else term for term in others)) for own, others in lines]
-    return (tuple(new if term == old else term for term in head), tuple(dict.fromkeys(put)))
-
-
-def tried_chase(alternative, rules):
-    stands = (alternative[0], tuple(dict.fromkeys(alternative[1])))
-    steps = []
-    while True:
-        step = tried_due(stands[1], rules)
-        if step is None:
-            return ("still", stands, steps)
-        if step[0] == "clash":
-            return ("clash", stands, steps + [step])
-        if step[0] == "put":
-            there = [table for table, terms in stands[1]].count(rules[step[1]][3])
-            if there >= 5 or [taken[0] for taken in steps].count("put") >= 16:
-                return ("past", stands, steps)
-        stands = tried_behind(stands, step, rules)
-        steps.append(step)
 
 
 def book_of(lines):

@@ -3,8 +3,8 @@ import itertools
 import unittest
 
 from things import (
-    FAR, Dice, Refusing, Unwalked, line, names_told, numbers_for, row_choices, rows, thrown_questions, thrown_rings,
-    tried_answers, wheel,
+    FAR, Dice, Refusing, Unwalked, line, names_told, numbers_for, rows, thrown_questions, thrown_rings, tried_answers,
+    tried_why, wheel,
 )
 
 from askwithin.papers import bound, holds, paper, told, why
@@ -25,17 +25,6 @@ def tried_bound(head, row):
 
 def with_numbers(lines, known):
     return tuple((table, tuple(known.get(term, term) for term in terms)) for table, terms in lines)
-
-
-def tried_why(book, question, row):
-    for number, (head, lines) in enumerate(question):
-        found = []
-        for numbers, chosen in row_choices(book, lines):
-            if tuple(numbers.get(term, term) for term in head) == row:
-                found.append(tuple(numbers[name] for name in names_told(lines)))
-        if found:
-            return (number, min(found))
-    return None
 
 
 def has_partner(lines, k, row, other, others):

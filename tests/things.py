@@ -9,6 +9,7 @@ from askwithin.errors import AskError, TooMany
 WIDTHS = [("one", 1), ("two", 2), ("pair", 2), ("three", 3)]
 NAMES = ["x", "y", "z", "w", "v"]
 FAR = int("9" * 70)
+LONG = int("9" * 60)
 
 
 class Asking(unittest.TestCase):
@@ -153,6 +154,126 @@ def tried_answers(book, question):
     return sorted(told)
 
 
+def tried_why(book, question, row):
+    for number, (head, lines) in enumerate(question):
+        found = []
+        for numbers, chosen in row_choices(book, lines):
+            if tuple(numbers.get(term, term) for term in head) == row:
+                found.append(tuple(numbers[name] for name in names_told(lines)))
+        if found:
+            return (number, min(found))
+    return None
+
+
+def is_text(term):
+    return isinstance(term, str)
+
+
+def tried_right(lines, step, rules):
+    """What the document says of a step that may be taken, word for word, of steps whose parts are of the right kind."""
+    word, number, i = step[:3]
+    if number >= len(rules) or i >= len(lines):
+        return False
+    rule, (table, terms) = rules[number], lines[i]
+    if word == "put":
+        if rule[0] != "points" or rule[1] != table:
+            return False
+        pairs = list(zip(rule[2], rule[4], strict=True))
+        return not any(own == rule[3] and all(terms[k] == others[m] for k, m in pairs) for own, others in lines)
+    j, column = step[3:]
+    if rule[0] != "key" or not i < j or j >= len(lines) or rule[1] != table or rule[1] != lines[j][0]:
+        return False
+    others = lines[j][1]
+    if any(terms[k] != others[k] for k in rule[2]) or column >= len(terms) or terms[column] == others[column]:
+        return False
+    return (word == "clash") == (not is_text(terms[column]) and not is_text(others[column]))
+
+
+def tried_steps(lines, rules):
+    """All steps, right or not, with numbers somewhat beyond what is there."""
+    numbers, places, columns = range(len(rules) + 1), range(len(lines) + 1), range(4)
+    for word in ("same", "clash"):
+        yield from itertools.product((word,), numbers, places, places, columns)
+    yield from itertools.product(("put",), numbers, places)
+
+
+def tried_due(lines, rules):
+    right = [step for step in tried_steps(lines, rules) if tried_right(lines, step, rules)]
+    by_keys = sorted([step for step in right if step[0] != "put"], key=lambda step: step[1:])
+    puts = sorted([step for step in right if step[0] == "put"], key=lambda step: (step[2], step[1]))
+    return (by_keys + puts + [None])[0]
+
+
+def tried_behind(alternative, step, rules):
+    """The alternative behind a step that is right."""
+    head, lines = alternative
+    if step[0] == "clash":
+        return alternative
+    rule = rules[step[1]]
+    terms = lines[step[2]][1]
+    if step[0] == "put":
+        taken = set(head) | {term for own, others in lines for term in others}
+        fresh = (name for name in (f"n{k}" for k in itertools.count(1)) if name not in taken)
+        given = dict(zip(rule[4], [terms[k] for k in rule[2]]))
+        return (head, lines + ((rule[3], tuple(given[k] if k in given else next(fresh) for k in range(rule[5]))),))
+    s, t = terms[step[4]], lines[step[3]][1][step[4]]
+    old, new = (s, t) if is_text(s) and not is_text(t) else (t, s)
+    put = [(own, tuple(new if term == old else term for term in others)) for own, others in lines]
+    return (tuple(new if term == old else term for term in head), tuple(dict.fromkeys(put)))
+
+
+def tried_chase(alternative, rules):
+    stands = (alternative[0], tuple(dict.fromkeys(alternative[1])))
+    steps = []
+    while True:
+        step = tried_due(stands[1], rules)
+        if step is None:
+            return ("still", stands, steps)
+        if step[0] == "clash":
+            return ("clash", stands, steps + [step])
+        if step[0] == "put":
+            there = [table for table, terms in stands[1]].count(rules[step[1]][3])
+            if there >= 5 or [taken[0] for taken in steps].count("put") >= 16:
+                return ("past", stands, steps)
+        stands = tried_behind(stands, step, rules)
+        steps.append(step)
+
+
+def tried_frozen(alternative, above):
+    head, lines = alternative
+    numbers = {name: above + 1 + k for k, name in enumerate(names_told(lines))}
+    book = {}
+    for table, terms in lines:
+        book.setdefault(table, set()).add(tuple(numbers.get(term, term) for term in terms))
+    return {table: sorted(own) for table, own in book.items()}, tuple(numbers.get(term, term) for term in head)
+
+
+def tried_alone(alternative, other, rules, above):
+    """What the document says of an alternative by itself: its paper, or ("not", book, row), or ("open",)."""
+    word, chased, steps = tried_chase(alternative, rules)
+    if word == "clash":
+        return ("clash", steps)
+    book, row = tried_frozen(chased, above)
+    found = tried_why(book, other, row)
+    if found is None:
+        return ("not", book, row) if word == "still" else ("open",)
+    number, match = found
+    terms = dict(enumerate(names_told(chased[1]), start=above + 1))
+    pairs = list(zip(names_told(other[number][1]), [terms.get(own, own) for own in match], strict=True))
+    return ("map", number, pairs, steps)
+
+
+def tried_within(one, other, rules):
+    terms = [term for head, lines in one + other for part in [head] + [own[1] for own in lines] for term in part]
+    above = max([0] + [term for term in terms if not is_text(term)])
+    told = [tried_alone(alternative, other, rules, above) for alternative in one]
+    for word in ("not", "open"):
+        numbers = [number for number, own in enumerate(told) if own[0] == word]
+        if numbers:
+            return ("not", numbers[0]) + told[numbers[0]][1:] if word == "not" else ("open", numbers)
+    return ("within", told)
+
+
 class Dice:
     """Numbers that look thrown and are the same each time, whatever Python it is."""
 
@@ -196,6 +317,26 @@ class Dice:
     def rules(self, most, widths=WIDTHS):
         return [self.rule(widths) for k in range(self.throw(most + 1))]
 
+    def loosened(self, alternative):
+        """An alternative of which the given one's answers are answers, too, whatever the rules are."""
+        head, lines = alternative
+        told = []
+        for table, terms in lines:
+            if self.throw(4) > 0:
+                told.append((table, tuple(f"l{self.throw(30)}" if self.throw(6) == 0 else term for term in terms)))
+        if self.throw(2) == 0:
+            told = told[::-1]
+        # A name of the head that stands nowhere any more would make it no alternative.
+        return (head, tuple(told)) if set(filter(is_text, head)) <= set(names_told(told)) else alternative
+
+    def alternative(self, length, terms, widths):
+        lines = self.lines(5, terms, widths) or self.lines(5, terms, widths)
+        own = names_told(lines) * 3 + [0, 1]
+        return (tuple(self.pick(own) for place in range(length)), lines)
+
+    def question(self, length, terms, widths):
+        return [self.alternative(length, terms, widths) for k in range(self.pick([0, 1, 1, 2, 2, 3]))]
+
 
 def thrown_cases(many):
     """Books with lines, many of them with matches, alike lines, rings and names that stand twice."""
@@ -231,3 +372,18 @@ def thrown_rings(many):
         turned = dice.throw(len(told))
         values = dice.pick([[0, 1], [0, 1, 2], [0, -FAR, FAR]])
         yield dice.book(dice.pick([5, 9]), values), tuple(told[turned:] + told[:turned])
+
+
+def thrown_pairs(many):
+    """Two questions each with rules, the second often loosened from the first, some with heads of unlike lengths."""
+    dice = Dice(19)
+    for k in range(many):
+        widths = dice.pick([WIDTHS[1:2], WIDTHS[1:3], WIDTHS[:2], WIDTHS])
+        terms = dice.pick([NAMES[:2], NAMES[:3], NAMES, ["n1", "x", "n2"]]) + [0, 1, -LONG, 1, 0][:dice.throw(6)]
+        length = dice.pick([0, 0, 1, 1, 2])
+        one = dice.question(length, terms, widths)
+        other = dice.question(length if dice.throw(12) else 3, terms, widths)
+        if dice.throw(2) > 0:
+            other = (other[:1] if dice.throw(4) == 0 else []) + [dice.loosened(alternative) for alternative in one]
+            other = [alternative for alternative in other if len(alternative[0]) == length][:3]
+        yield one, other, dice.rules(dice.pick([0, 2, 6, 6]), widths)
